@@ -1,0 +1,1 @@
+"""Fewpegs: many lines served through few pegs."""
