@@ -1,6 +1,7 @@
 """The package keeps to the small part of Python that it is to be written in, as far as a walk over it can see."""
 
 import ast
+import builtins
 import pathlib
 import re
 import unittest
@@ -26,6 +27,13 @@ WORDS = (
     "NamedTuple TypedDict TYPE_CHECKING abstractmethod"
 ).split()
 PIECES = ("dataclass", "overload", "contextmanager")
+PYTHON_METHODS = (
+    "append clear copy count endswith extend find get index insert isalnum isalpha isdigit islower isspace isupper items "
+    "join keys ljust lower lstrip partition pop remove replace reverse rfind rjust rpartition rsplit rstrip setdefault "
+    "split splitlines startswith strip update upper values zfill bit_length"
+).split()
+KEYWORDS = {"sorted": ("key", "reverse"), "min": ("key", "default"), "max": ("key", "default")}
+NOT_USED = "register mro elements open input version_info with_traceback add_note format format_map".split()
 
 
 def files():
@@ -58,6 +66,22 @@ def bound_names(tree):
     return names
 
 
+def own_methods():
+    return {
+        part.name
+        for _, node in walked() if isinstance(node, ast.ClassDef)
+        for part in node.body if isinstance(part, ast.FunctionDef)
+    }
+
+
+def drawn_from():
+    drawn = {}
+    for name, text in sources():
+        rows = [node for node in ast.walk(ast.parse(text)) if isinstance(node, ast.ImportFrom)]
+        drawn[name] = {row.module.split(".")[1] + ".py" for row in rows}
+    return drawn
+
+
 class Form(unittest.TestCase):
     def test_only_plainly_named_files_lie_in_the_package(self):
         self.assertIn("__init__.py", [path.name for path in files()])
@@ -87,6 +111,47 @@ class Form(unittest.TestCase):
                 self.assertEqual(node.level, 0, name)
                 self.assertRegex(node.module, r"\Afewpegs\.[a-z0-9_]+\Z", name)
                 self.assertNotIn("*", [alias.name for alias in node.names], name)
+
+    def test_names_are_drawn_from_the_file_that_defines_them(self):
+        trees = {name: ast.parse(text) for name, text in sources()}
+        for name, node in walked():
+            if isinstance(node, ast.ImportFrom):
+                top = trees[node.module.split(".")[1] + ".py"].body
+                defined = {part.name for part in top if isinstance(part, (ast.FunctionDef, ast.ClassDef))}
+                self.assertLessEqual({alias.name for alias in node.names}, defined, name)
+
+    def test_no_two_files_draw_from_one_another(self):
+        drawn = drawn_from()
+        while drawn:
+            free = [name for name, others in drawn.items() if not others & set(drawn)]
+            self.assertTrue(free, drawn)
+            drawn = {name: others for name, others in drawn.items() if name not in free}
+
+    def test_calls(self):
+        methods = own_methods() | set(PYTHON_METHODS)
+        for name, node in walked():
+            if isinstance(node, ast.Call):
+                called = node.func.id if isinstance(node.func, ast.Name) else node.func.attr
+                self.assertTrue(isinstance(node.func, ast.Name) or called in methods, (name, node.lineno))
+                for keyword in node.keywords:
+                    self.assertIn(keyword.arg, KEYWORDS.get(called, ()), (name, node.lineno))
+
+    def test_names_that_are_not_used(self):
+        for name, text in sources():
+            tree = ast.parse(text)
+            attributes = {node.attr for node in ast.walk(tree) if isinstance(node, ast.Attribute)}
+            self.assertFalse((bound_names(tree) | attributes) & set(NOT_USED), name)
+            self.assertFalse(bound_names(tree) & set(dir(builtins)), name)
+
+    def test_no_local_is_called_like_a_class_or_an_import(self):
+        for name, text in sources():
+            tree = ast.parse(text)
+            tops = {alias.name for node in tree.body if isinstance(node, ast.ImportFrom) for alias in node.names}
+            tops |= {node.name for node in tree.body if isinstance(node, ast.ClassDef)}
+            for node in ast.walk(tree):
+                given = node.arg if isinstance(node, ast.arg) else None
+                stored = node.id if isinstance(node, ast.Name) and isinstance(node.ctx, ast.Store) else None
+                self.assertFalse({given, stored} & tops, (name, getattr(node, "lineno", None)))
 
     def test_functions(self):
         for name, node in walked():

@@ -5,8 +5,7 @@ import unittest
 
 from fewpegs.errors import BoardError, NoPegs
 from fewpegs.pegs import Pegs
-
-GREATEST = 10 ** 60 - 1
+from helpers import GREATEST, WordsPegs
 
 # Rank by number, so that the order of lines can be read off the numbers.
 RISING = list(range(60))
@@ -355,53 +354,9 @@ class Told(PegsCase):
         self.assertEqual(kept, ([1], [5], 1, (3, 2, 0)))
 
 
-class Words:
-    """Point 9 word by word: each line that is there is known to hang or to wait, in no order."""
-
-    def __init__(self, ranks, many, lines):
-        self.place = {line: (ranks[line], line) for line in range(len(ranks))}
-        self.many = many
-        self.hangs = {}
-        self.counts = [len(lines), 0, 0]
-        for line in lines:
-            self.hangs[line] = False
-        self.lay_first_waiting()
-
-    def those(self, hanging):
-        lines = [line for line, hangs in self.hangs.items() if hangs == hanging]
-        lines.sort(key=self.place.get)
-        return lines
-
-    def lay_first_waiting(self):
-        for line in self.those(False)[:self.many]:
-            self.hangs[line] = True
-            self.counts[1] += 1
-
-    def come(self, line):
-        hanging = self.those(True)
-        ahead = any(self.place[line] < self.place[other] for other in hanging)
-        room = len(hanging) < self.many
-        laid = ahead or (room and not self.those(False))
-        if laid and not room:
-            self.hangs[hanging[-1]] = False
-        self.hangs[line] = laid
-        self.counts[0] += 1
-        self.counts[1] += laid
-
-    def go(self, line):
-        del self.hangs[line]
-        if self.those(False) and not self.those(True):
-            self.counts[2] += 1
-            self.lay_first_waiting()
-
-    def state(self):
-        hanging = self.those(True)
-        return (hanging, self.those(False), hanging[0] if hanging else None, tuple(self.counts))
-
-
 class AgainstTheWords(PegsCase):
     def follow(self, ranks, many, lines, row):
-        pegs, words = Pegs(ranks, many, lines), Words(ranks, many, lines)
+        pegs, words = Pegs(ranks, many, lines), WordsPegs(ranks, many, lines)
         self.assertEqual(state(pegs), words.state())
         for line in row:
             deed = "go" if line in words.hangs else "come"
